@@ -1,0 +1,1 @@
+"""Everyfloor: whole-number formulas of one unknown, for every n."""

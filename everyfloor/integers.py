@@ -1,0 +1,134 @@
+"""Integers, and rows of integers: (r0, r1, r2, ..) stands for r0 + r1 * n + r2 * n ** 2 + .."""
+
+from math import comb, gcd
+
+
+def is_int(value):
+    """True if the value is an integer; True and False are not."""
+    return isinstance(value, int) and not isinstance(value, bool)
+
+
+def is_int_from(value, low):
+    """True if the value is an integer that is not less than low."""
+    return is_int(value) and value >= low
+
+
+def sign_of(number):
+    """1, 0 or -1."""
+    if number == 0:
+        return 0
+    return 1 if number > 0 else -1
+
+
+def value_at(row, n):
+    """The value of the row at n."""
+    total = 0
+    for number in row[::-1]:
+        total = total * n + number
+    return total
+
+
+def divisible_everywhere(row, under):
+    """True if the value of the row at every integer is a multiple of under."""
+    # As many integers in a row as the row has members are enough: degree + 1.
+    for n in range(len(row)):
+        left = 0
+        for number in row[::-1]:
+            left = (left * n + number) % under
+        if left != 0:
+            return False
+    return True
+
+
+def trimmed(row):
+    """The row without zeros at its end."""
+    size = len(row)
+    while size > 0 and row[size - 1] == 0:
+        size = size - 1
+    return list(row[:size])
+
+
+def common_divisor(first, row):
+    """The greatest integer that divides the integer first, which is not 0, and every member of the row."""
+    shared = first
+    for number in row:
+        if shared == 1:
+            return 1
+        shared = gcd(shared, number)
+    return shared
+
+
+def row_times(row, factor):
+    """The row of factor times the values."""
+    return [number * factor for number in row]
+
+
+def row_sum(one, other):
+    """The row of the sums of the values."""
+    size = max(len(one), len(other))
+    left = list(one) + [0] * (size - len(one))
+    right = list(other) + [0] * (size - len(other))
+    return [a + b for a, b in zip(left, right)]
+
+
+def row_product(one, other):
+    """The row of the products of the values."""
+    if len(one) == 0 or len(other) == 0:
+        return []
+    product = [0] * (len(one) + len(other) - 1)
+    for k, a in enumerate(one):
+        for j, b in enumerate(other):
+            product[k + j] = product[k + j] + a * b
+    return product
+
+
+def row_divided(row, divisor):
+    """(quotient, rest, factor), with a factor from 1 on: factor times the row is quotient * divisor + rest.
+
+    The divisor does not end with 0, and the rest is shorter than the divisor.
+    """
+    top = divisor[-1]
+    rest = list(row)
+    quotient = [0] * (len(row) - len(divisor) + 1)
+    factor = 1
+    for k in reversed(range(len(quotient))):
+        lead = rest[k + len(divisor) - 1]
+        # Only what keeps the next member of the quotient whole is multiplied, so that the numbers stay small.
+        widening = abs(top) // gcd(top, lead)
+        rest = [number * widening for number in rest]
+        quotient = [number * widening for number in quotient]
+        factor = factor * widening
+        quotient[k] = lead * widening // top
+        for j, number in enumerate(divisor):
+            rest[k + j] = rest[k + j] - quotient[k] * number
+    return quotient, rest[:len(divisor) - 1], factor
+
+
+def row_stretched(row, m, r):
+    """The row that has at t the value of the row at m * t + r."""
+    stretched = []
+    for number in row[::-1]:
+        stretched = row_sum(row_product(stretched, (r, m)), (number,))
+    return stretched
+
+
+def row_of_steps(row):
+    """The row whose value at n is the value of the row at n + 1 less that at n."""
+    size = len(row)
+    return [sum([comb(k, j) * row[k] for k in range(j + 1, size)]) for j in range(size - 1)]
+
+
+def row_through(place, values):
+    """(row, under) of the least degree, with the values over under at place, place + 1, and so on."""
+    leads = []
+    line = list(values)
+    while any(line):
+        leads.append(line[0])
+        line = [after - before for before, after in zip(line, line[1:])]
+    # Newton's form: lead 0 + (n - place) / 1 * (lead 1 + (n - place - 1) / 2 * (lead 2 + ..)), from the inside out.
+    row = []
+    under = 1
+    for k in reversed(range(len(leads))):
+        row = row_sum(row_product(row, (-place - k, 1)), (leads[k] * under,))
+        under = under * max(k, 1)
+    return row, under

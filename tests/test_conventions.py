@@ -1,0 +1,131 @@
+"""Points [1] and [2], and the interface: names, arguments and kinds of values."""
+
+import inspect
+import unittest
+
+from everyfloor import pieces, signs, wheres
+from everyfloor.errors import BadNumber, BadRow, BadTruth, TooFine
+from everyfloor.pieces import Piece
+from everyfloor.signs import all_with, last_above, signs_of
+from everyfloor.wheres import Where
+from tests.checks import Checks
+
+SIGNATURES = {
+    signs: {"signs_of": "(p, low=0)", "last_above": "(p)", "all_with": "(p, value)"},
+    Piece: {
+        "__init__": "(self, row, under=1)", "__call__": "(self, n)", "divided": "(self, q)",
+        "stretched": "(self, m, r)", "through": "(cls, place, values)"},
+    Where: {
+        "__init__": "(self, below, rests)", "of": "(cls, members)", "since": "(cls, low)", "rest": "(cls, m, r)",
+        "first_from": "(self, n)", "last_to": "(self, n)", "how_many": "(self, low, high)", "member": "(self, k)"},
+}
+OPERATORS = {
+    Piece: ("eq", "add", "radd", "sub", "rsub", "mul", "rmul", "neg", "pow"),
+    Where: ("eq", "contains", "or", "and", "sub", "xor", "invert", "le", "lt", "ge", "gt", "bool"),
+}
+
+
+class TestInterface(unittest.TestCase):
+
+    def test_each_name_is_defined_in_its_file_or_class(self):
+        self.assertEqual((Piece.__module__, Where.__module__), ("everyfloor.pieces", "everyfloor.wheres"))
+        self.assertIs(pieces.Piece, Piece)
+        self.assertIs(wheres.Where, Where)
+        for name in SIGNATURES[signs]:
+            self.assertEqual(vars(signs)[name].__module__, "everyfloor.signs")
+        for owner, names in OPERATORS.items():
+            for name in names:
+                self.assertIn(f"__{name}__", vars(owner))
+
+    def test_the_arguments_are_those_of_the_document(self):
+        for owner, signatures in SIGNATURES.items():
+            for name, signature in signatures.items():
+                function = vars(owner)[name]
+                plain = getattr(function, "__func__", function)
+                self.assertEqual(str(inspect.signature(plain)), signature, name)
+
+    def test_makers_are_class_methods(self):
+        for owner, names in ((Piece, ("through",)), (Where, ("of", "since", "rest"))):
+            for name in names:
+                self.assertIsInstance(vars(owner)[name], classmethod)
+
+    def test_arguments_by_name(self):
+        p = Piece(row=[1, 2], under=3)
+        self.assertEqual(p, Piece([1, 2], 3))
+        self.assertEqual(p(n=1), 1)
+        self.assertEqual(p.divided(q=p), (Piece((1,)), Piece(())))
+        self.assertEqual(p.stretched(r=1, m=3), Piece((1, 2)))
+        self.assertEqual(Piece.through(values=[1, 2], place=1), Piece((0, 1)))
+        self.assertEqual(signs_of(low=1, p=p), [(1, None, 1)])
+        self.assertIsNone(last_above(p=p))
+        self.assertEqual(all_with(value=1, p=p), [1])
+        w = Where(rests=[False, True], below=[True])
+        self.assertEqual(w, Where([True], [False, True]))
+        self.assertEqual(Where.of(members=[0]) | Where.rest(r=1, m=2), w)
+        self.assertEqual(Where.since(low=0), w | ~w)
+        self.assertEqual([w.first_from(n=2), w.last_to(n=2), w.how_many(high=4, low=1), w.member(k=2)], [3, 1, 2, 3])
+
+    def test_attributes_are_there_when_the_object_is(self):
+        self.assertLessEqual({"row", "under"}, set(vars(Piece((1,)))))
+        self.assertLessEqual({"below", "rests", "start", "period"}, set(vars(Where([], [True]))))
+
+
+class TestConventions(Checks):
+
+    def test_lists_and_tuples_in_the_place_of_each_other(self):
+        self.assertEqual(Piece([1, 2], 3), Piece((1, 2), 3))
+        self.assertEqual(Piece.through(0, [1, 2]), Piece.through(0, (1, 2)))
+        self.assertEqual(Where([True], (False, True)), Where((True,), [False, True]))
+        self.assertEqual(Where.of([1, 2]), Where.of((1, 2)))
+
+    def test_no_argument_is_changed(self):
+        row, values, below, rests, members = [2, 4, 0], [1, 4, 9], [True, False, False], [False, False], [5, 1]
+        Piece(row, 6)
+        Piece.through(5, values)
+        Where(below, rests)
+        Where.of(members)
+        self.assertEqual((row, values, below, rests, members),
+                         ([2, 4, 0], [1, 4, 9], [True, False, False], [False, False], [5, 1]))
+
+    def test_later_changes_to_arguments_have_no_effect(self):
+        row, below, rests, members = [1, 2], [False, True], [True, False], [5, 1]
+        p, w, few = Piece(row), Where(below, rests), Where.of(members)
+        for given in (row, below, rests, members):
+            given.clear()
+        self.assertEqual(p, Piece((1, 2)))
+        self.assertEqual(w, Where((False, True), (True, False)))
+        self.assertEqual(few, Where.of([1, 5]))
+
+    def test_calls_change_no_object(self):
+        p, q, v, w = Piece((1, 2), 3), Piece((4, 0, 1), 5), Where.rest(3, 1), Where.of([4, 10])
+        kept = [dict(vars(thing)) for thing in (p, q, v, w)]
+        for _ in (p + q, p - q, p * q, -p, p ** 3, q.divided(p), p.stretched(2, 1), p.is_whole, p.end, p.degree,
+                  signs_of(p), last_above(p), all_with(p, 1), v | w, v & w, v - w, v ^ w, ~v, v <= w, v < w, 4 in v,
+                  bool(v), v.least, v.size, v.first_from(7), v.last_to(7), v.how_many(0, 50), v.member(3)):
+            pass
+        self.assertEqual([vars(thing) for thing in (p, q, v, w)], kept)
+
+    def test_a_call_that_raises_an_error_changes_nothing(self):
+        row, below = [1, None], [True, None]
+        self.assert_error(BadRow, {"index": 1}, Piece, row)
+        self.assert_error(BadTruth, {"index": 1}, Where, below, [True])
+        self.assertEqual((row, below), ([1, None], [True, None]))
+        p, v, w = Piece((1, 2)), Where.rest(25, 0), Where.rest(36, 0)
+        kept = [dict(vars(thing)) for thing in (p, v, w)]
+        self.assert_error(BadNumber, {"number": 7}, lambda: p ** 7)
+        self.assert_error(TooFine, {"most": 720}, lambda: v & w)
+        self.assertEqual([vars(thing) for thing in (p, v, w)], kept)
+
+    def test_objects_of_different_kinds_are_not_equal(self):
+        p, w = Piece(()), Where.of([])
+        self.assertFalse(p == w)
+        self.assertFalse(w == p)
+
+    def test_true_and_false_are_no_integers(self):
+        self.assert_error(BadRow, {"index": 0}, Piece, [True])
+        self.assert_error(BadNumber, {"number": True}, all_with, Piece((1,)), True)
+        self.assertNotIn(True, Where.since(0))
+
+
+if __name__ == "__main__":
+    unittest.main()
