@@ -75,10 +75,9 @@ def row_product(one, other):
     """The row of the products of the values."""
     if len(one) == 0 or len(other) == 0:
         return []
-    product = [0] * (len(one) + len(other) - 1)
-    for k, a in enumerate(one):
-        for j, b in enumerate(other):
-            product[k + j] = product[k + j] + a * b
+    product = []
+    for number in one[::-1]:
+        product = row_sum([0, *product], row_times(other, number))
     return product
 
 
@@ -88,27 +87,25 @@ def row_divided(row, divisor):
     The divisor does not end with 0, and the rest is shorter than the divisor.
     """
     top = divisor[-1]
+    quotient = []
     rest = list(row)
-    quotient = [0] * (len(row) - len(divisor) + 1)
     factor = 1
-    for k in reversed(range(len(quotient))):
-        lead = rest[k + len(divisor) - 1]
+    while len(rest) >= len(divisor):
         # Only what keeps the next member of the quotient whole is multiplied, so that the numbers stay small.
-        widening = abs(top) // gcd(top, lead)
-        rest = [number * widening for number in rest]
-        quotient = [number * widening for number in quotient]
+        widening = abs(top) // gcd(top, rest[-1])
+        lead = rest[-1] * widening // top
+        taken = [0] * (len(rest) - len(divisor)) + row_times(divisor, lead)
+        rest = [number * widening - less for number, less in zip(rest[:-1], taken)]
+        quotient = [lead] + row_times(quotient, widening)
         factor = factor * widening
-        quotient[k] = lead * widening // top
-        for j, number in enumerate(divisor):
-            rest[k + j] = rest[k + j] - quotient[k] * number
-    return quotient, rest[:len(divisor) - 1], factor
+    return quotient, rest, factor
 
 
 def row_stretched(row, m, r):
     """The row that has at t the value of the row at m * t + r."""
     stretched = []
     for number in row[::-1]:
-        stretched = row_sum(row_product(stretched, (r, m)), (number,))
+        stretched = row_sum(row_product((r, m), stretched), (number,))
     return stretched
 
 
@@ -129,6 +126,6 @@ def row_through(place, values):
     row = []
     under = 1
     for k in reversed(range(len(leads))):
-        row = row_sum(row_product(row, (-place - k, 1)), (leads[k] * under,))
+        row = row_sum(row_product((-place - k, 1), row), (leads[k] * under,))
         under = under * max(k, 1)
     return row, under
