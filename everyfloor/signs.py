@@ -11,13 +11,18 @@ def signs_of(p, low=0):
     """The list of the (first, last, sign) of p at the integers from low on; the last one has None as its last."""
     if not is_int(low):
         raise BadPlace(low)
-    rows = [p.row]
+    return signs_of_row(p.row, low)
+
+
+def signs_of_row(row, low):
+    """The list of the (first, last, sign) of the row of integers at the integers from low on, as signs_of tells it."""
+    rows = [row]
     while len(rows[-1]) > 1:
         rows.append(row_of_steps(rows[-1]))
     # The signs of the steps tell where a row goes up and where down; the last row does not move at all.
     found = [(low, None, sign_of(value_at(rows[-1], low)))]
-    for row in rows[-2::-1]:
-        found = _signs_by_moves(row, found)
+    for higher in rows[-2::-1]:
+        found = _signs_by_moves(higher, found)
     return found
 
 
@@ -48,10 +53,8 @@ def _signs_by_moves(row, moves):
     found = []
     for first, last, move in moves:
         for start, stop, sign in _signs_of_stretch(row, first, last, move):
-            if len(found) > 0 and found[-1][2] == sign:
-                found[-1] = (found[-1][0], stop, sign)
-            else:
-                found.append((start, stop, sign))
+            begin = found.pop()[0] if len(found) > 0 and found[-1][2] == sign else start
+            found.append((begin, stop, sign))
     return found
 
 

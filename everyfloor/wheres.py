@@ -2,6 +2,7 @@
 
 from math import gcd, lcm
 
+from everyfloor.cycles import least_period
 from everyfloor.errors import BadNumber, BadPlace, BadTruth, NoMember, TooFine, TooLate
 from everyfloor.integers import is_int, is_int_from
 
@@ -17,7 +18,7 @@ class Where:
         _check_truths(rests)
         if len(rests) == 0:
             raise BadTruth(0)
-        period = _least_period(rests)
+        period = least_period(rests)
         start = _least_start(below, rests)
         if period > MOST_PERIOD:
             raise TooFine(MOST_PERIOD)
@@ -178,35 +179,6 @@ def _check_truths(truths):
     for index, truth in enumerate(truths):
         if truth is not True and truth is not False:
             raise BadTruth(index)
-
-
-def _least_period(rests):
-    """The least divisor of the length by which the rests come round."""
-    period = len(rests)
-    for prime in _primes_of(period):
-        while period % prime == 0 and _comes_round(rests, period // prime):
-            period = period // prime
-    return period
-
-
-def _comes_round(rests, step):
-    return rests[step:] == rests[:len(rests) - step]
-
-
-def _primes_of(number):
-    """The primes that divide the number, which is from 1 on."""
-    primes = []
-    left = number
-    prime = 2
-    while prime * prime <= left:
-        if left % prime == 0:
-            primes.append(prime)
-        while left % prime == 0:
-            left = left // prime
-        prime = prime + 1
-    if left > 1:
-        primes.append(left)
-    return primes
 
 
 def _least_start(below, rests):

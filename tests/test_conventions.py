@@ -3,36 +3,59 @@
 import inspect
 import unittest
 
-from everyfloor import pieces, signs, wheres
-from everyfloor.errors import BadNumber, BadRow, BadTruth, TooFine
+from everyfloor import claims, compare, formulas, pieces, signs, wheres, within
+from everyfloor.claims import (
+    alike, always, common, highest, holds_from, least_from, lowest, reached, remainders, solved)
+from everyfloor.compare import Test, atmost, less, same, when
+from everyfloor.errors import BadNumber, BadPiece, BadRow, BadTruth, BadWhole, NoBound, TooFine
+from everyfloor.formulas import Formula, gcd, greatest, least, unknown, whole
 from everyfloor.pieces import Piece
 from everyfloor.signs import all_with, last_above, signs_of
 from everyfloor.wheres import Where
+from everyfloor.within import by_data, count, place, total
 from tests.checks import Checks
 
-SIGNATURES = {
+FILES = {
     signs: {"signs_of": "(p, low=0)", "last_above": "(p)", "all_with": "(p, value)"},
+    formulas: {
+        "unknown": "()", "whole": "(c)", "gcd": "(f, g)", "least": "(f, g)", "greatest": "(f, g)"},
+    compare: {"less": "(f, g)", "atmost": "(f, g)", "same": "(f, g)", "when": "(t, f, g)"},
+    within: {"total": "(f, g)", "count": "(t, g)", "place": "(t, g)", "by_data": "(below, pieces)"},
+    claims: {
+        "alike": "(f, g)", "always": "(t)", "holds_from": "(t)", "least_from": "(f, v)", "solved": "(f, v)",
+        "reached": "(f)", "lowest": "(f, bound=-1000000)", "highest": "(f, bound=1000000)", "common": "(f)",
+        "remainders": "(f, m)"},
+}
+SIGNATURES = {
+    **FILES,
     Piece: {
         "__init__": "(self, row, under=1)", "__call__": "(self, n)", "divided": "(self, q)",
         "stretched": "(self, m, r)", "through": "(cls, place, values)"},
     Where: {
         "__init__": "(self, below, rests)", "of": "(cls, members)", "since": "(cls, low)", "rest": "(cls, m, r)",
         "first_from": "(self, n)", "last_to": "(self, n)", "how_many": "(self, low, high)", "member": "(self, k)"},
+    Formula: {"__call__": "(self, n)"},
+    Test: {"__call__": "(self, n)"},
 }
 OPERATORS = {
     Piece: ("eq", "add", "radd", "sub", "rsub", "mul", "rmul", "neg", "pow"),
     Where: ("eq", "contains", "or", "and", "sub", "xor", "invert", "le", "lt", "ge", "gt", "bool"),
+    Formula: ("call", "eq", "add", "radd", "sub", "rsub", "mul", "rmul", "floordiv", "rfloordiv", "mod", "rmod", "pow",
+              "neg", "abs"),
+    Test: ("call", "eq", "invert", "and", "or"),
 }
 
 
 class TestInterface(unittest.TestCase):
 
     def test_each_name_is_defined_in_its_file_or_class(self):
-        self.assertEqual((Piece.__module__, Where.__module__), ("everyfloor.pieces", "everyfloor.wheres"))
-        self.assertIs(pieces.Piece, Piece)
-        self.assertIs(wheres.Where, Where)
-        for name in SIGNATURES[signs]:
-            self.assertEqual(vars(signs)[name].__module__, "everyfloor.signs")
+        for file, name in ((pieces, "Piece"), (wheres, "Where"), (formulas, "Formula"), (compare, "Test")):
+            self.assertEqual(vars(file)[name].__module__, file.__name__)
+            self.assertIsInstance(vars(file)[name], type)
+        for file, names in FILES.items():
+            for name in names:
+                self.assertEqual(vars(file)[name].__module__, file.__name__)
+                self.assertTrue(inspect.isfunction(vars(file)[name]))
         for owner, names in OPERATORS.items():
             for name in names:
                 self.assertIn(f"__{name}__", vars(owner))
@@ -65,9 +88,27 @@ class TestInterface(unittest.TestCase):
         self.assertEqual(Where.since(low=0), w | ~w)
         self.assertEqual([w.first_from(n=2), w.last_to(n=2), w.how_many(high=4, low=1), w.member(k=2)], [3, 1, 2, 3])
 
+    def test_arguments_of_formulas_by_name(self):
+        n = unknown()
+        t = less(g=5, f=n)
+        self.assertEqual((t, t(n=4), n(n=7), whole(c=3)(n=0)), (less(n, 5), True, 7, 3))
+        self.assertEqual((gcd(g=n, f=6), least(g=n, f=6), greatest(g=n, f=6)), (gcd(6, n), least(6, n), greatest(6, n)))
+        self.assertEqual((atmost(g=n, f=6), same(g=n, f=6), when(g=1, t=t, f=n)),
+                         (atmost(6, n), same(6, n), when(t, n, 1)))
+        self.assertEqual((total(g=4, f=n), count(g=4, t=t), place(g=4, t=t)), (total(n, 4), count(t, 4), place(t, 4)))
+        self.assertEqual(by_data(pieces=[Piece((1,))], below=[2])(0), 2)
+        self.assertEqual([alike(g=n, f=0), always(t=t), holds_from(t=t), least_from(v=3, f=n), solved(v=3, f=n)[1],
+                          reached(f=3), lowest(f=n, bound=3), highest(bound=3, f=-n), common(f=6), remainders(m=2, f=n)],
+                         [1, 5, None, 3, (3,), (3,), (0, 0), (0, 0), 6, (0, 1)])
+
     def test_attributes_are_there_when_the_object_is(self):
         self.assertLessEqual({"row", "under"}, set(vars(Piece((1,)))))
         self.assertLessEqual({"below", "rests", "start", "period"}, set(vars(Where([], [True]))))
+        n = unknown()
+        for f in (n, whole(3), n + 1, gcd(n, 6), when(less(n, 5), n, 1), n(n), total(n, n), by_data([], [None])):
+            self.assertLessEqual({"below", "pieces", "start", "period", "undefined", "text"}, set(vars(f)))
+        for t in (less(n, 5), ~less(n, 5), same(n, 5) & atmost(n, 7), same(n, 5) | atmost(n, 7)):
+            self.assertLessEqual({"holds", "fails", "text"}, set(vars(t)))
 
 
 class TestConventions(Checks):
@@ -105,6 +146,22 @@ class TestConventions(Checks):
             pass
         self.assertEqual([vars(thing) for thing in (p, q, v, w)], kept)
 
+    def test_calls_change_no_formula_and_no_test(self):
+        n = unknown()
+        f, t = n * n // (n + 3) - n % 4, less(n % 5, n // 2)
+        kept = [dict(vars(thing)) for thing in (n, f, t)]
+        for _ in (f + n, 3 - f, f * f, f // n, f % n, -f, abs(f), f ** 3, gcd(f, n), least(f, 2), greatest(2, f), f(7),
+                  f(n), f == n, t(3), ~t, t & t, t | t, t == t, when(t, f, n), total(f, n), count(t, f), place(t, f),
+                  alike(f, n), always(t), holds_from(t), least_from(f, 2), solved(f, 2), reached(f), lowest(f),
+                  common(f), remainders(f, 7)):
+            pass
+        self.assert_error(NoBound, {"n": 1004}, highest, f, 999)
+        self.assertEqual([vars(thing) for thing in (n, f, t)], kept)
+        below, row = [1, 2], [Piece((1, 2)), None]
+        by_data(below, row)
+        self.assert_error(BadPiece, {"index": 0}, by_data, below, [Piece((1,), 2)])
+        self.assertEqual((below, row), ([1, 2], [Piece((1, 2)), None]))
+
     def test_a_call_that_raises_an_error_changes_nothing(self):
         row, below = [1, None], [True, None]
         self.assert_error(BadRow, {"index": 1}, Piece, row)
@@ -120,11 +177,15 @@ class TestConventions(Checks):
         p, w = Piece(()), Where.of([])
         self.assertFalse(p == w)
         self.assertFalse(w == p)
+        things = [Piece((1,)), Where.of([1]), whole(1), same(1, 1), 1, True, None]
+        for k, one in enumerate(things[:4]):
+            self.assertEqual([one == other for other in things], [j == k for j in range(7)])
 
     def test_true_and_false_are_no_integers(self):
         self.assert_error(BadRow, {"index": 0}, Piece, [True])
         self.assert_error(BadNumber, {"number": True}, all_with, Piece((1,)), True)
         self.assertNotIn(True, Where.since(0))
+        self.assert_error(BadWhole, {"value": True}, lambda: unknown() + True)
 
 
 if __name__ == "__main__":

@@ -139,8 +139,15 @@ class TestLanguage(unittest.TestCase):
         for where, node in self.nodes(ast.Call):
             if isinstance(node.func, ast.Name) and node.func.id in ("min", "max", "sorted"):
                 plain = [argument for argument in node.args
-                         if isinstance(argument, ast.Constant) or re.match(r"(len|int)\(", ast.unparse(argument))]
+                         if isinstance(argument, ast.Constant) or re.match(r"\[?(len|int)\(", ast.unparse(argument))]
                 self.assertTrue(plain, where)
+
+    def test_methods_and_attributes_have_different_names(self):
+        methods = {node.name for _, kind in self.nodes(ast.ClassDef) for node in kind.body
+                   if isinstance(node, ast.FunctionDef)}
+        for where, node in self.nodes(ast.Attribute):
+            if not isinstance(node.ctx, ast.Load):
+                self.assertNotIn(node.attr, methods, where)
 
     def test_strings(self):
         for path, tree in self.trees.items():

@@ -66,7 +66,8 @@ class TestOperators(unittest.TestCase):
 
     def test_operators_and_what_they_call_are_found(self):
         names = {function.name for _, function in self.reached}
-        self.assertLessEqual({"__mul__", "row_product", "__or__", "__init__", "trimmed", "is_whole"}, names)
+        self.assertLessEqual({"__mul__", "row_product", "__or__", "__init__", "trimmed", "is_whole",
+                              "__floordiv__", "__mod__", "row_divided", "signs_of_row", "least_form"}, names)
         self.assertNotIn("signs_of", names)
 
     def test_nothing_is_assigned_but_names(self):
