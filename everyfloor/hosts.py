@@ -63,8 +63,7 @@ def _outer_piece(host, piece, number):
 
 def _inserted(outer, piece):
     """The piece whose value at n is that of outer at the value of the piece at n."""
-    if outer.degree > 0:
-        check_degree(outer.degree * piece.degree)
+    check_degree(outer.degree * piece.degree)
     inserted = Piece(())
     for number in outer.row[::-1]:
         inserted = inserted * piece + number

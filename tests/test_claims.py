@@ -228,6 +228,12 @@ class TestLowest(Twins):
         self.assertEqual(lowest(7), (7, 0))
         self.assertEqual(lowest(HOLE), (-6, 2))
         self.assertEqual(highest(HOLE), (6, 4))
+        # The rests one by one: the same least value at another n, or a greater one at a smaller n.
+        even = same(n % 2, 0)
+        self.assertEqual(lowest(when(even, (n - 30) ** 2, (n - 5) ** 2)), (0, 5))
+        self.assertEqual(lowest(when(even, (n - 4) ** 2, (n - 9) ** 2)), (0, 4))
+        self.assertEqual(lowest(when(even, (n - 30) ** 2, (n - 5) ** 2 + 1)), (0, 30))
+        self.assertEqual(lowest(when(even, (n - 4) ** 2 + 30, (n - 31) ** 2)), (0, 31))
 
     def test_values_of_any_size(self):
         f = by_data([], [Piece((0, -2 * HUNDRED, 1))])

@@ -150,6 +150,11 @@ class TestTotal(Twins):
         self.assertEqual(total(n % 4, 4 * n), 6 * n)
         self.assertEqual(total(n % 4 - 1, 8 * n + 2), 4 * n - 1)
 
+    def test_sums_that_come_to_0(self):
+        f = total(n % 2 * 2 - 1, n)
+        self.assertEqual((f, f.pieces), (-(n % 2), (Piece(()), Piece((-1,)))))
+        self.assertEqual(total(n % 3 - 1, 3 * n), whole(0))
+
     def test_empty_sums(self):
         for f in (n, UNDEFINED, 6 // n, n % 720):
             for g in (0, -5, -n, 0 * n, -n * n):
@@ -243,6 +248,10 @@ class TestCount(Twins):
         self.assert_error(TooLate, LATE, count, same(n, n), n - TEN - 1)
         self.assertEqual(count(less(n, TEN), n).start, 10000)
         self.assertEqual(count(less(n, TEN), n)(HUNDRED), 10000)
+        # The places go from -1 to 4 behind 10000, and the counts from 0 to 3.
+        self.assert_error(TooLate, LATE, count, less(n, 3), 5 * (n - 2 * TEN) - 1)
+        self.assert_error(TooLate, LATE, count, less(n, 3), 5 * (2 * TEN - n) - 1)
+        self.assertEqual(count(less(n, 3), 5 * (n - TEN + 1) - 1).start, 10000)
 
 
 class TestPlace(Twins):
@@ -261,7 +270,8 @@ class TestPlace(Twins):
     def test_values(self):
         tests = (lambda k: k.less(k.n, 20), lambda k: k.same(k.n % 3, 1), lambda k: k.atmost(6 // (k.n - 14), 0),
                  lambda k: k.less(k.n % 6, k.n % 4), lambda k: k.same(k.n // (k.n % 4), 7), lambda k: k.same(k.n, -1),
-                 lambda k: k.same(k.n // 0, 1), lambda k: k.less(9, k.n), lambda k: k.less(k.n - 1, 5 * (k.n % 7)))
+                 lambda k: k.same(k.n // 0, 1), lambda k: k.less(9, k.n), lambda k: k.less(k.n - 1, 5 * (k.n % 7)),
+                 lambda k: k.same(k.n, 2) | k.less(9, k.n) & k.less(k.n % 7, 3))
         numbers = (lambda k: k.n, lambda k: k.n - 9, lambda k: 30 - k.n, lambda k: k.n // 2, lambda k: 12 + 0 * k.n,
                    lambda k: 60 // (k.n - 2), lambda k: (k.n - 4) * (k.n - 9), lambda k: k.n // (k.n % 3))
         for t, g in itertools.product(tests, numbers):
@@ -293,7 +303,8 @@ class TestPlace(Twins):
         self.assertEqual(place(less(n % 25, 7), n // 102).period, 714)
         self.assert_error(TooFine, FINE, place, less(n % 25, 7), n // 104)
         self.assertEqual(place(same(n % 25, 7), n // 104), n // 104 * 25 + 7)
-        self.assertEqual(place(less(n, 7), n // 104).period, 1)
+        self.assertEqual(place(less(n, 7), n // 720).period, 1)
+        self.assertEqual(place(less(n, 7), n // 720).start, 5040)
         # Also if it tells nothing, because the test is undefined at 0.
         self.assert_error(TooFine, FINE, place, less(n % 25, 7) & less(0 // n, 1) | less(0 // n, 0), n // 104)
 
