@@ -5,25 +5,29 @@ Here a formula is looked at by its attributes below, start, pieces and period al
 
 from math import gcd
 
-from everyfloor.division import common_divisors, quotients, start_of_quotients
+from everyfloor.division import common_divisors, quotient_piece, quotients, rest_piece, start_of_quotients
 from everyfloor.rows import (
-    check_degree, later_start, least_form, pairs_of_pieces, pairs_of_values, values_to)
+    check_degree, differences, later_start, least_form, pairs_of_pieces, pairs_of_values, pieces_of_both,
+    values_of_both, values_to)
 from everyfloor.steady import start_of_signs
 
 
 def sum_of(f, g):
-    pieces = _sums(pairs_of_pieces(f, g))
-    return least_form(_sums(pairs_of_values(f, g, later_start(f, g))), pieces)
+    ones, others = pieces_of_both(f, g)
+    values, added = values_of_both(f, g, later_start(f, g))
+    return least_form(_sums(values, added), _sums(ones, others))
 
 
 def difference_of(f, g):
-    pieces = _differences(pairs_of_pieces(f, g))
-    return least_form(_differences(pairs_of_values(f, g, later_start(f, g))), pieces)
+    ones, others = pieces_of_both(f, g)
+    values, taken = values_of_both(f, g, later_start(f, g))
+    return least_form(differences(values, taken), differences(ones, others))
 
 
 def product_of(f, g):
-    pieces = _products(pairs_of_pieces(f, g))
-    return least_form(_products(pairs_of_values(f, g, later_start(f, g))), pieces)
+    ones, others = pieces_of_both(f, g)
+    values, factors = values_of_both(f, g, later_start(f, g))
+    return least_form(_products(values, factors), _products(ones, others))
 
 
 def negative_of(f):
@@ -47,13 +51,13 @@ def absolute_of(f):
 def quotient_of(f, g):
     cuts, start = _cuts(f, g)
     values = [None if pair is None else pair[0] // pair[1] for pair in _divisions(f, g, start)]
-    return least_form(values, [None if cut is None else cut[0] for cut in cuts])
+    return least_form(values, [quotient_piece(cut) for cut in cuts])
 
 
 def rest_of(f, g):
     cuts, start = _cuts(f, g)
     values = [None if pair is None else pair[0] % pair[1] for pair in _divisions(f, g, start)]
-    return least_form(values, [None if cut is None else cut[1] for cut in cuts])
+    return least_form(values, [rest_piece(cut) for cut in cuts])
 
 
 def common_divisor_of(f, g):
@@ -76,16 +80,12 @@ def chosen_of(f, g, sign):
     return least_form(values, pieces)
 
 
-def _sums(pairs):
-    return [None if pair is None else pair[0] + pair[1] for pair in pairs]
+def _sums(ones, others):
+    return [None if a is None or b is None else a + b for a, b in zip(ones, others)]
 
 
-def _differences(pairs):
-    return [None if pair is None else pair[0] - pair[1] for pair in pairs]
-
-
-def _products(pairs):
-    return [None if pair is None else pair[0] * pair[1] for pair in pairs]
+def _products(ones, others):
+    return [None if a is None or b is None else a * b for a, b in zip(ones, others)]
 
 
 def _negatives(row):
@@ -118,7 +118,7 @@ def _chosen(pair, sign):
 
 
 def _cuts(f, g):
-    """The (quotient, rest, divisor) of the pieces, and a start from which the values follow them."""
+    """The cuts of the pieces of f by those of g, and a start from which the values follow them."""
     pairs = pairs_of_pieces(f, g)
     cuts = quotients([None if pair is None or pair[1].degree < 0 else pair for pair in pairs])
     return cuts, start_of_quotients(later_start(f, g), cuts)

@@ -5,7 +5,7 @@ from math import gcd
 from everyfloor.errors import BadNumber, NoBound, NoValue, TooMany
 from everyfloor.formulas import as_formula
 from everyfloor.integers import is_int, is_int_from
-from everyfloor.lines import lines_of
+from everyfloor.lines import lines_of, remainders_of
 from everyfloor.rows import value_of
 from everyfloor.wheres import Where
 
@@ -114,9 +114,12 @@ def remainders(f, m):
         raise BadNumber(m)
     formula = as_formula(f)
     found = {value % m: True for value in formula.below if value is not None}
-    for line in lines_of(formula):
-        for rest in line.remainders(m):
-            found[rest] = True
+    # Lines of one shape have the same rests, and when all rests are found no line can tell more.
+    shapes = {line.shape(m): True for line in lines_of(formula)}
+    for under, row in shapes:
+        if len(found) == m:
+            break
+        found.update(remainders_of(under, row, m))
     return tuple([k for k in range(m) if k in found])
 
 

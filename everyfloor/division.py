@@ -3,34 +3,55 @@
 from math import gcd, lcm
 
 from everyfloor.errors import TooFine
-from everyfloor.integers import row_stretched, value_at
+from everyfloor.integers import row_stretched, row_sum, row_times, value_at
 from everyfloor.pieces import Piece
 from everyfloor.steady import behind, merged, signs_on
 from everyfloor.wheres import MOST_PERIOD
 
 
 def quotients(pairs):
-    """(quotient, rest, divisor) of the pairs (piece, divisor) for great n, for each rest by a period.
+    """The cuts of the pairs (piece, divisor) for great n, for each rest by a period.
 
-    The period is the least fitting multiple of the number of pairs. No divisor is 0. Where a pair is None, so is
-    what is returned.
+    The period is the least fitting multiple of the number of pairs. No divisor is 0. Where a pair is None, so is the
+    cut; otherwise it is (a, left, rest, divisor), with piece == a * divisor + rest, and the quotient is
+    a - left / a.under.
     """
     m = len(pairs)
-    cuts = [None if pair is None else _cut(pair[0], pair[1], m, r) for r, pair in enumerate(pairs)]
+    halves = [None if pair is None else _halved(pair[0], pair[1], m, r) for r, pair in enumerate(pairs)]
     finer = 1
-    for cut in cuts:
-        if cut is not None:
-            finer = lcm(finer, len(cut[1]))
+    for half in halves:
+        if half is not None:
+            finer = lcm(finer, len(half[2]))
             _check_period(m * finer)
-    return [_quotient(pairs[r % m], cuts[r % m], r // m) for r in range(m * finer)]
+    return [_cut(halves[r % m], pairs[r % m], r // m) for r in range(m * finer)]
+
+
+def quotient_piece(cut):
+    """The quotient that a cut tells; None for None."""
+    if cut is None:
+        return None
+    a, left, _, _ = cut
+    return a if left == 0 else Piece(row_sum(a.row, (-left,)), a.under)
+
+
+def rest_piece(cut):
+    """The rest that a cut tells; None for None."""
+    if cut is None:
+        return None
+    a, left, rest, divisor = cut
+    if left == 0:
+        return rest
+    added = Piece(row_times(divisor.row, left), divisor.under * a.under)
+    return added if len(rest.row) == 0 else rest + added
 
 
 def start_of_quotients(low, cuts):
-    """The least start from low on of what quotients returns for the period len(cuts)."""
+    """The least start from low on from which the cuts of quotients tell the quotients."""
     start = low
     for r, cut in enumerate(cuts):
-        if cut is not None:
-            start = behind(_last_astray(cut[1], cut[2], len(cuts), r, start), start)
+        # The rests by a constant are constants that are right for each n.
+        if cut is not None and len(cut[3].row) > 1:
+            start = behind(_last_astray(rest_piece(cut), cut[3], len(cuts), r, start), start)
     return start
 
 
@@ -39,7 +60,8 @@ def common_divisors(pairs):
     row = [_shortened(pair) for pair in pairs]
     while any([_is_open(pair) for pair in row]):
         cuts = quotients([pair if _is_open(pair) else None for pair in row])
-        row = [_shortened(row[r % len(row)] if cut is None else (cut[2], cut[1])) for r, cut in enumerate(cuts)]
+        row = [_shortened(row[r % len(row)] if cut is None else (cut[3], rest_piece(cut)))
+               for r, cut in enumerate(cuts)]
     return [None if pair is None else pair[0] for pair in row]
 
 
@@ -59,14 +81,24 @@ def _check_period(m):
         raise TooFine(MOST_PERIOD)
 
 
-def _cut(piece, divisor, m, r):
-    """(a, left): piece / divisor is close to a; its whole part is a - left[t % len(left)] / a.under at m * t + r."""
+def _halved(piece, divisor, m, r):
+    """(a, rest, lefts): piece == a * divisor + rest, and at m * t + r the quotient is a - lefts[t] / a.under.
+
+    The lefts come round.
+    """
     a, rest = piece.divided(divisor)
-    left = _lefts(a, m, r)
+    lefts = _lefts(a, m, r)
     if rest.end * divisor.end < 0:
         # piece / divisor comes close to a from below, so that where a is whole the whole part is a - 1.
-        left = [a.under if number == 0 else number for number in left]
-    return a, left
+        lefts = [a.under if left == 0 else left for left in lefts]
+    return a, rest, lefts
+
+
+def _cut(half, pair, t):
+    if half is None:
+        return None
+    a, rest, lefts = half
+    return a, lefts[t % len(lefts)], rest, pair[1]
 
 
 def _lefts(a, m, r):
@@ -74,24 +106,19 @@ def _lefts(a, m, r):
     if a.under == 1:
         return [0]
     row = [number % a.under for number in row_stretched(a.row, m, r)]
+    if len(row) == 2:
+        period = a.under // gcd(row[1], a.under)
+        _check_period(m * period)
+        return [(row[0] + row[1] * t) % a.under for t in range(period)]
     # The differences of the values at t + k and at t are 0 everywhere if they are at as many t as this.
     width = len(row) - 1
-    left = []
+    lefts = []
     for t in range(MOST_PERIOD // m + width):
-        left.append(value_at(row, t) % a.under)
+        lefts.append(value_at(row, t) % a.under)
         k = t + 1 - width
-        if k > 0 and left[k:] == left[:width]:
-            return left[:k]
+        if k > 0 and lefts[k:] == lefts[:width]:
+            return lefts[:k]
     raise TooFine(MOST_PERIOD)
-
-
-def _quotient(pair, cut, t):
-    if cut is None:
-        return None
-    piece, divisor = pair
-    a, left = cut
-    quotient = a - Piece((left[t % len(left)],), a.under)
-    return quotient, piece - quotient * divisor, divisor
 
 
 def _last_astray(rest, divisor, m, r, low):

@@ -1,9 +1,9 @@
 """Functions of a place k, and what a formula follows that puts the values of another formula in the place of k."""
 
 from everyfloor.errors import TooLate
-from everyfloor.integers import value_at
+from everyfloor.integers import row_product, row_sum, value_at
 from everyfloor.pieces import Piece
-from everyfloor.rows import check_degree, gives, later_start, least_form, repeated, values_to
+from everyfloor.rows import check_degree, gives, later_start, least_form, repeated, values_of_piece, values_to
 from everyfloor.signs import signs_of_row
 from everyfloor.steady import behind, first_on, last_other, merged
 from everyfloor.wheres import MOST_START
@@ -40,8 +40,10 @@ def placed(host, guest, rests, m):
     guests = repeated(guest.pieces, m)
     numbers = [None if piece is None else value_at(piece.row, 0) for piece in repeated(rests.pieces, m)]
     pieces = [_placed_piece(host, piece, number) for piece, number in zip(guests, numbers)]
-    start = _start_of_placed(host, guests, numbers, later_start(guest, rests))
-    values = [None if k is None else host.given(k) for k in values_to(guest, start)]
+    start = _start_of_placed(host, guest.pieces, numbers, later_start(guest, rests))
+    size = len(host.below)
+    values = [None if k is None else host.below[k] if 0 <= k < size else host.given(k)
+              for k in values_to(guest, start)]
     return least_form(values, pieces)
 
 
@@ -64,30 +66,47 @@ def _outer_piece(host, piece, number):
 def _inserted(outer, piece):
     """The piece whose value at n is that of outer at the value of the piece at n."""
     check_degree(outer.degree * piece.degree)
-    inserted = Piece(())
+    if len(outer.row) < 2 or piece.row == (0, 1) and piece.under == 1:
+        return outer
+    inserted = []
+    factor = 1
     for number in outer.row[::-1]:
-        inserted = inserted * piece + number
-    return inserted * Piece((1,), outer.under)
+        inserted = row_sum(row_product(piece.row, inserted), (number * factor,))
+        factor = factor * piece.under
+    return Piece(inserted, outer.under * factor // piece.under)
 
 
 def _start_of_placed(host, guests, numbers, low):
-    """A start from low on from which the host at the values of the guests follows its pieces."""
+    """A start from low on from which the host at the values of the guests follows its pieces.
+
+    The numbers are those of placed, for a period that is a multiple of the number of guests.
+    """
     m = len(guests)
     start = low
     strays = {}
     for r, piece in enumerate(guests):
-        if piece is None or piece.degree <= 0:
-            continue
-        last = _last_on_the_way(host, piece, m, r, start)
-        if last >= MOST_START:
-            # Some n are left at which the host is not asked where it is simple; they may do no harm, one by one.
-            key = (numbers[r], piece.end)
-            if key not in strays:
-                strays[key] = _strays(host, _outer_piece(host, piece, numbers[r]), numbers[r])
-            _check_late(host, piece.stretched(m, r), numbers[r], first_on(m, r, MOST_START), strays[key])
-            last = MOST_START - 1
-        start = behind(last, start)
+        if piece is not None and piece.degree > 0:
+            last = _last_on_the_way(host, piece, m, r, start)
+            if last >= MOST_START:
+                # Some n are left at which the host is not asked where it is simple; they may do no harm, one by one.
+                for k in range(r, len(numbers), m):
+                    _check_late(host, piece, numbers, k, start, strays)
+                last = MOST_START - 1
+            start = behind(last, start)
     return start
+
+
+def _check_late(host, piece, numbers, r, low, strays):
+    """TooLate if the host at the value of the piece at some late n of the rest r by len(numbers) goes astray.
+
+    strays keeps what _strays has told before.
+    """
+    m = len(numbers)
+    if _last_on_the_way(host, piece, m, r, low) >= MOST_START:
+        key = (numbers[r], piece.end)
+        if key not in strays:
+            strays[key] = _strays(host, _outer_piece(host, piece, numbers[r]), numbers[r])
+        _check_line(host, piece.stretched(m, r), numbers[r], first_on(m, r, MOST_START), strays[key])
 
 
 def _last_on_the_way(host, piece, m, r, low):
@@ -106,7 +125,7 @@ def _strays(host, outer, number):
     return {k: True for k in range(number, size, len(host.pieces)) if not gives(outer, k, host.below[k])}
 
 
-def _check_late(host, piece, number, first, strays):
+def _check_line(host, piece, number, first, strays):
     """TooLate if at some t from first on the host at the value of the piece is not what it is for great t."""
     outer = _outer_piece(host, piece, number)
     ones = signs_of_row(piece.row, first)
@@ -115,7 +134,7 @@ def _check_late(host, piece, number, first, strays):
         if sign < 0:
             is_late = _differ(host.low, outer, piece, begin, last)
         elif gap < 0:
-            is_late = len(strays) > 0 and any([value_on(piece, t) in strays for t in range(begin, last + 1)])
+            is_late = len(strays) > 0 and any([k in strays for k in values_of_piece(piece, begin, 1, last + 1 - begin)])
         else:
             is_late = _differ(host.pieces[number], outer, piece, begin, last)
         if is_late:

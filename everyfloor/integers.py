@@ -65,10 +65,15 @@ def row_times(row, factor):
 
 def row_sum(one, other):
     """The row of the sums of the values."""
-    size = max(len(one), len(other))
-    left = list(one) + [0] * (size - len(one))
-    right = list(other) + [0] * (size - len(other))
-    return [a + b for a, b in zip(left, right)]
+    if len(one) < len(other):
+        return row_sum(other, one)
+    return [a + b for a, b in zip(one, other)] + list(one[len(other):])
+
+
+def row_gap(one, other):
+    """The row of the values of one less those of the other."""
+    size = min(len(one), len(other))
+    return [a - b for a, b in zip(one, other)] + list(one[size:]) + [-b for b in other[size:]]
 
 
 def row_product(one, other):
@@ -103,6 +108,8 @@ def row_divided(row, divisor):
 
 def row_stretched(row, m, r):
     """The row that has at t the value of the row at m * t + r."""
+    if len(row) == 2:
+        return [row[0] + row[1] * r, row[1] * m]
     stretched = []
     for number in row[::-1]:
         stretched = row_sum(row_product((r, m), stretched), (number,))
@@ -115,17 +122,18 @@ def row_of_steps(row):
     return [sum([comb(k, j) * row[k] for k in range(j + 1, size)]) for j in range(size - 1)]
 
 
-def row_through(place, values):
-    """(row, under) of the least degree, with the values over under at place, place + 1, and so on."""
+def row_through(place, values, step=1):
+    """(row, under) of the least degree, with the values over under at place, place + step, and so on."""
     leads = []
     line = list(values)
     while any(line):
         leads.append(line[0])
         line = [after - before for before, after in zip(line, line[1:])]
-    # Newton's form: lead 0 + (n - place) / 1 * (lead 1 + (n - place - 1) / 2 * (lead 2 + ..)), from the inside out.
+    # Newton's form: lead 0 + (n - place) / step * (lead 1 + (n - place - step) / (2 * step) * (lead 2 + ..)), from
+    # the inside out.
     row = []
     under = 1
     for k in reversed(range(len(leads))):
-        row = row_sum(row_product((-place - k, 1), row), (leads[k] * under,))
-        under = under * max(k, 1)
+        row = row_sum(row_product((-place - k * step, 1), row), (leads[k] * under,))
+        under = under * max(k * step, 1)
     return row, under

@@ -41,19 +41,9 @@ class Line:
         """As many values as tell the greatest common divisor of all: the first ones, one more than the degree."""
         return [self.given(self.first + k) for k in range(len(self.piece.row))]
 
-    def remainders(self, m):
-        """The ascending list of the rests of the values by m."""
-        parts = [(power, self._remainders_by(power, prime)) for prime, power in _prime_powers(m)]
-        # The values come round by powers of the primes, so that the rests by these go together in every way.
-        return [k for k in range(m) if all([k % power in found for power, found in parts])]
-
-    def _remainders_by(self, power, prime):
-        many = power
-        while many // power * prime <= self.piece.degree:
-            many = many * prime
-        modulus = power * self.piece.under
-        row = [number % modulus for number in self.piece.row]
-        return {value_at(row, t) % modulus // self.piece.under: True for t in range(many)}
+    def shape(self, m):
+        """Numbers that are the same for lines with the same rests of values by m."""
+        return self.piece.under, tuple([number % (m * self.piece.under) for number in self.piece.row])
 
 
 def lines_of(f):
@@ -63,6 +53,24 @@ def lines_of(f):
         if piece is not None:
             lines.append(Line(piece, f.period, r, f.start))
     return lines
+
+
+def remainders_of(under, row, m):
+    """The rests by m of the integers row / under at all t, as a dict of True."""
+    parts = [(power, _remainders_by(under, row, power, prime)) for prime, power in _prime_powers(m)]
+    if len(parts) == 1:
+        return parts[0][1]
+    # The values come round by powers of the primes, so that the rests by these go together in every way.
+    return {k: True for k in range(m) if all([k % power in found for power, found in parts])}
+
+
+def _remainders_by(under, row, power, prime):
+    many = power
+    while many // power * prime < len(row):
+        many = many * prime
+    modulus = power * under
+    small = [number % modulus for number in row]
+    return {value_at(small, t) % modulus // under: True for t in range(many)}
 
 
 def _prime_powers(m):

@@ -2,8 +2,8 @@
 
 from everyfloor.errors import BadNumber, BadPlace, BadRow, BadUnder, NoDivisor, NotWhole
 from everyfloor.integers import (
-    common_divisor, divisible_everywhere, is_int, is_int_from, row_divided, row_product, row_stretched, row_sum,
-    row_through, row_times, sign_of, trimmed, value_at)
+    common_divisor, divisible_everywhere, is_int, is_int_from, row_divided, row_gap, row_product, row_stretched,
+    row_sum, row_through, row_times, sign_of, trimmed, value_at)
 
 MOST_POWER = 6
 
@@ -13,11 +13,12 @@ class Piece:
 
     def __init__(self, row, under=1):
         _check_row(row)
-        if not is_int_from(under, 1):
+        # What is no integer is asked without further calls here: pieces are made by the thousand.
+        if not isinstance(under, int) or under is True or under < 1:
             raise BadUnder(under)
         numbers = trimmed(row)
-        shared = common_divisor(under, numbers)
-        self.row = tuple([number // shared for number in numbers])
+        shared = common_divisor(under, numbers) if under > 1 else 1
+        self.row = tuple(numbers if shared == 1 else [number // shared for number in numbers])
         self.under = under // shared
 
     @classmethod
@@ -59,6 +60,8 @@ class Piece:
         if not _counts_as_piece(other):
             return NotImplemented
         added = _as_piece(other)
+        if self.under == added.under:
+            return Piece(row_sum(self.row, added.row), self.under)
         row = row_sum(row_times(self.row, added.under), row_times(added.row, self.under))
         return Piece(row, self.under * added.under)
 
@@ -68,7 +71,9 @@ class Piece:
     def __sub__(self, other):
         if not _counts_as_piece(other):
             return NotImplemented
-        return self + -_as_piece(other)
+        less = _as_piece(other)
+        under = self.under if self.under == less.under else self.under * less.under
+        return Piece(gap_row(self, less), under)
 
     def __rsub__(self, other):
         return -self + other
@@ -111,9 +116,16 @@ class Piece:
         return Piece(row_stretched(self.row, m, r), self.under)
 
 
+def gap_row(p, q):
+    """A row of integers that has the signs of p - q everywhere; p - q has it over the product of unlike unders."""
+    if p.under == q.under:
+        return trimmed(row_gap(p.row, q.row))
+    return trimmed(row_gap(row_times(p.row, q.under), row_times(q.row, p.under)))
+
+
 def _check_row(row):
     for index, number in enumerate(row):
-        if not is_int(number):
+        if not isinstance(number, int) or number is True or number is False:
             raise BadRow(index)
 
 

@@ -14,6 +14,16 @@ from everyfloor.wheres import MOST_PERIOD, MOST_START
 MOST_DEGREE = 8
 
 
+class Told:
+    """A formula without a text and a set of the n at which it is undefined."""
+
+    def __init__(self, below, pieces):
+        self.below = below
+        self.pieces = pieces
+        self.start = len(below)
+        self.period = len(pieces)
+
+
 def common_period(periods):
     """The least common multiple of the periods."""
     m = 1
@@ -39,7 +49,39 @@ def value_of(f, n):
 
 def values_to(f, size):
     """What f gives at each n less than size."""
-    return list(f.below[:size]) + [value_of(f, n) for n in range(f.start, size)]
+    late = size - f.start
+    if late <= 0:
+        return list(f.below[:size])
+    columns = min(f.period, int(late))
+    # Each column has the values at the n with one rest; the last ones may be too many.
+    height = (late + columns - 1) // columns
+    found = [values_of_piece(f.pieces[n % f.period], n, columns, height) for n in range(f.start, f.start + columns)]
+    later = found[0] if columns == 1 else [value for row in zip(*found) for value in row]
+    return list(f.below) + later[:late]
+
+
+def values_of_piece(piece, first, step, many):
+    """As many values of a piece, at first, first + step, and so on, where they are integers; None for None."""
+    if piece is None:
+        return [None] * many
+    if len(piece.row) < 2:
+        return [value_of_constant(piece)] * many
+    if len(piece.row) == 2 and piece.under == 1:
+        begin = value_at(piece.row, first)
+        rise = piece.row[1] * step
+        return list(range(begin, begin + rise * many, rise))
+    places = list(range(first, first + step * many, step))
+    values = [piece.row[-1]] * many
+    for number in piece.row[-2::-1]:
+        values = [value * n + number for value, n in zip(values, places)]
+    return values if piece.under == 1 else [value // piece.under for value in values]
+
+
+def value_of_constant(piece):
+    """The value of a piece without n; None for None."""
+    if piece is None:
+        return None
+    return piece.row[0] if len(piece.row) > 0 else 0
 
 
 def pairs_of(ones, others):
@@ -47,15 +89,30 @@ def pairs_of(ones, others):
     return [None if a is None or b is None else (a, b) for a, b in zip(ones, others)]
 
 
-def pairs_of_pieces(f, g):
-    """The pairs of the pieces of f and g for each rest by the least common multiple of their periods."""
+def differences(ones, others):
+    """The members of one list less those of the other; None where a member is None."""
+    return [None if a is None or b is None else a - b for a, b in zip(ones, others)]
+
+
+def pieces_of_both(f, g):
+    """The pieces of f, and those of g, for each rest by the least common multiple of their periods."""
     m = common_period((f.period, g.period))
-    return pairs_of(repeated(f.pieces, m), repeated(g.pieces, m))
+    return repeated(f.pieces, m), repeated(g.pieces, m)
+
+
+def values_of_both(f, g, size):
+    """What f gives at each n less than size, and what g gives."""
+    return values_to(f, size), values_to(g, size)
+
+
+def pairs_of_pieces(f, g):
+    ones, others = pieces_of_both(f, g)
+    return pairs_of(ones, others)
 
 
 def pairs_of_values(f, g, size):
-    """The pairs of what f and g give at each n less than size."""
-    return pairs_of(values_to(f, size), values_to(g, size))
+    ones, others = values_of_both(f, g, size)
+    return pairs_of(ones, others)
 
 
 def later_start(f, g):

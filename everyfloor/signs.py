@@ -84,6 +84,8 @@ def _is_behind(row, move, n):
 
 def _crossing(row, move, first, last):
     """The least n behind first at which the row has come to 0; it has not at first, and it has at last (or later)."""
+    if len(row) == 2:
+        return -(row[0] // row[1])
     low, high = _bracket(row, move, first, last)
     parts = 4
     while high - low > WIDE:

@@ -22,7 +22,8 @@ def integer_text(number):
 
 def given_text(below, pieces):
     """The text of the formula that has these data."""
-    values = ", ".join(["none" if value is None else integer_text(value) for value in below])
+    values = ", ".join(["none" if value is None else str(value) if -LIMIT < value < LIMIT else integer_text(value)
+                        for value in below])
     return f"given({values}; " + ", ".join([piece_text(piece) for piece in pieces]) + ")"
 
 
@@ -31,6 +32,8 @@ def piece_text(piece):
         return "none"
     if len(piece.row) == 0:
         return "0"
+    if piece.under == 1:
+        return " ".join([integer_text(number) for number in piece.row])
     return " ".join([_fraction_text(number, piece.under) for number in piece.row])
 
 

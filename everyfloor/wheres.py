@@ -29,7 +29,7 @@ class Where:
         self.rests = tuple(rests[:period])
         self.below = tuple(below[:start])
         # The members below the start, and those from it on for one period: by them each member can be told.
-        self._early = tuple([n for n in range(start) if below[n]])
+        self._early = tuple([n for n, truth in enumerate(self.below) if truth])
         self._late = tuple([n for n in range(start, start + period) if rests[n % period]])
 
     @classmethod
@@ -80,20 +80,20 @@ class Where:
         return True in self.below or True in self.rests
 
     def __or__(self, other):
-        below, rests = _paired(self, other)
-        return Where([a or b for a, b in below], [a or b for a, b in rests])
+        below, others, rests, later = _paired(self, other)
+        return Where([a or b for a, b in zip(below, others)], [a or b for a, b in zip(rests, later)])
 
     def __and__(self, other):
-        below, rests = _paired(self, other)
-        return Where([a and b for a, b in below], [a and b for a, b in rests])
+        below, others, rests, later = _paired(self, other)
+        return Where([a and b for a, b in zip(below, others)], [a and b for a, b in zip(rests, later)])
 
     def __sub__(self, other):
-        below, rests = _paired(self, other)
-        return Where([a and not b for a, b in below], [a and not b for a, b in rests])
+        below, others, rests, later = _paired(self, other)
+        return Where([a and not b for a, b in zip(below, others)], [a and not b for a, b in zip(rests, later)])
 
     def __xor__(self, other):
-        below, rests = _paired(self, other)
-        return Where([a != b for a, b in below], [a != b for a, b in rests])
+        below, others, rests, later = _paired(self, other)
+        return Where([a != b for a, b in zip(below, others)], [a != b for a, b in zip(rests, later)])
 
     def __invert__(self):
         return Where([not a for a in self.below], [not a for a in self.rests])
@@ -176,16 +176,24 @@ class Where:
 
 
 def _check_truths(truths):
-    for index, truth in enumerate(truths):
-        if truth is not True and truth is not False:
-            raise BadTruth(index)
+    wrong = [index for index, truth in enumerate(truths) if truth is not True and truth is not False]
+    if len(wrong) > 0:
+        raise BadTruth(wrong[0])
 
 
 def _least_start(below, rests):
-    for n in reversed(range(len(below))):
-        if below[n] != rests[n % len(rests)]:
-            return n + 1
-    return 0
+    size = len(below)
+    truths = list(below)
+    later = (list(rests) * (size // len(rests) + 1))[:size]
+    # From the start on, and not from any n below it, the rows are the same to their ends.
+    low, high = 0, size
+    while low < high:
+        middle = (low + high) // 2
+        if truths[middle:] == later[middle:]:
+            high = middle
+        else:
+            low = middle + 1
+    return low
 
 
 def _many_less(places, n):
@@ -200,28 +208,30 @@ def _many_less(places, n):
     return low
 
 
-def _truths_to(where, start):
-    """Whether n is a member, for each n less than start, which is not less than the start of the set."""
-    return list(where.below) + [where.rests[n % where.period] for n in range(where.start, start)]
-
-
-def _pairs_below(v, w):
-    start = max(len(v.below), len(w.below))
-    return list(zip(_truths_to(v, start), _truths_to(w, start)))
+def truths_to(where, size):
+    """Whether n is a member, for each n less than size."""
+    late = size - where.start
+    if late <= 0:
+        return where.below[:size]
+    first = where.start % where.period
+    rests = where.rests[first:] + where.rests[:first]
+    return where.below + (rests * (late // where.period + 1))[:late]
 
 
 def _paired(v, w):
-    """Two lists of pairs: whether n is in v and whether it is in w, below both starts and for each rest."""
+    """Whether n is in v, and whether it is in w: below both starts, and then for each rest by both periods."""
     period = lcm(v.period, w.period)
     if period > MOST_PERIOD:
         raise TooFine(MOST_PERIOD)
-    rests = list(zip(v.rests * (period // v.period), w.rests * (period // w.period)))
-    return _pairs_below(v, w), rests
+    size = max(len(v.below), len(w.below))
+    return (truths_to(v, size), truths_to(w, size),
+            v.rests * (period // v.period), w.rests * (period // w.period))
 
 
 def _is_within(v, w):
     """True if each member of v is one of w."""
-    if any([a and not b for a, b in _pairs_below(v, w)]):
+    size = max(len(v.below), len(w.below))
+    if any([a and not b for a, b in zip(truths_to(v, size), truths_to(w, size))]):
         return False
     # Great n have any two rests by the two periods that are the same by the greatest common divisor, so that
     # the least common multiple, which may be long, is not walked through.

@@ -4,10 +4,11 @@ from everyfloor.compare import periods_of
 from everyfloor.errors import BadPiece, NoPieces
 from everyfloor.formulas import Formula, as_formula
 from everyfloor.hosts import Host, placed
-from everyfloor.integers import divisible_everywhere, row_product, row_stretched, row_sum, row_through
+from everyfloor.integers import divisible_everywhere, row_stretched, row_through
 from everyfloor.pieces import Piece
-from everyfloor.rows import common_period, least_form, value_of
+from everyfloor.rows import common_period, least_form, values_to
 from everyfloor.spelling import given_text
+from everyfloor.wheres import truths_to
 
 
 def total(f, g):
@@ -59,41 +60,46 @@ def _sums(f):
     pieces = []
     for r in range(f.period):
         first = f.start + (r - f.start) % f.period
-        pieces.append(_piece_through(first, f.period, sums[first:first + f.period * many:f.period]))
+        row, under = row_through(first, sums[first:first + f.period * many:f.period], f.period)
+        pieces.append(Piece(row, under))
     return Host(Piece(()), sums[:f.start], pieces)
 
 
 def _sums_to(f, last):
     """The sums of f at all numbers below k, for k from 0 to last."""
     sums = [0]
-    for k in range(last):
-        sums.append(sums[-1] + value_of(f, k))
+    total_so_far = 0
+    for value in values_to(f, last):
+        total_so_far = total_so_far + value
+        sums.append(total_so_far)
     return sums
-
-
-def _piece_through(first, step, values):
-    """The piece of the least degree with the values at first, first + step, first + 2 * step, .."""
-    row, under = row_through(0, values)
-    inserted = []
-    factor = 1
-    for number in row[::-1]:
-        inserted = row_sum(row_product((-first, 1), inserted), (number * factor,))
-        factor = factor * step
-    return Piece(inserted, under * factor // step) if len(row) > 0 else Piece(())
 
 
 def _counts(t):
     """How many numbers below k there are at which t holds, for every k."""
     gap = _first_gap(t)
+    start = t.holds.start
     period = t.holds.period
     if gap is not None:
-        return Host(Piece(()), [t.holds.how_many(0, k) for k in range(gap + 1)], [None] * period)
+        return Host(Piece(()), _counts_to(t.holds, gap), [None] * period)
     many = t.holds.rests.count(True)
+    counts = _counts_to(t.holds, start + period)
     pieces = []
     for r in range(period):
-        first = t.holds.start + (r - t.holds.start) % period
-        pieces.append(Piece((t.holds.how_many(0, first) * period - many * first, many), period))
-    return Host(Piece(()), [t.holds.how_many(0, k) for k in range(t.holds.start)], pieces)
+        first = start + (r - start) % period
+        pieces.append(Piece((counts[first] * period - many * first, many), period))
+    return Host(Piece(()), counts[:start], pieces)
+
+
+def _counts_to(where, last):
+    """How many members below k there are, for k from 0 to last."""
+    counts = [0]
+    many = 0
+    for truth in truths_to(where, last):
+        if truth:
+            many += 1
+        counts.append(many)
+    return counts
 
 
 def _members(t):
@@ -101,7 +107,7 @@ def _members(t):
     gap = _first_gap(t)
     many = t.holds.rests.count(True)
     end = t.holds.start if gap is None else gap
-    below = [n for n in range(end) if n in t.holds]
+    below = [n for n, truth in enumerate(truths_to(t.holds, end)) if truth]
     if gap is not None or many == 0:
         return Host(None, below, [None] * max(1, many))
     pieces = []
