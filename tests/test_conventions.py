@@ -3,14 +3,18 @@
 import inspect
 import unittest
 
-from everyfloor import claims, compare, formulas, pieces, signs, wheres, within
+from everyfloor import backs, books, claims, compare, formulas, loops, pieces, signs, texts, wheres, within
+from everyfloor.backs import simplest, told_back
+from everyfloor.books import Book
 from everyfloor.claims import (
     alike, always, common, highest, holds_from, least_from, lowest, reached, remainders, solved)
 from everyfloor.compare import Test, atmost, less, same, when
-from everyfloor.errors import BadNumber, BadPiece, BadRow, BadTruth, BadWhole, NoBound, TooFine
+from everyfloor.errors import BadMember, BadNumber, BadPiece, BadRow, BadTruth, BadWhole, NoBound, TooFine
 from everyfloor.formulas import Formula, gcd, greatest, least, unknown, whole
+from everyfloor.loops import Loop
 from everyfloor.pieces import Piece
 from everyfloor.signs import all_with, last_above, signs_of
+from everyfloor.texts import read_formula, read_test
 from everyfloor.wheres import Where
 from everyfloor.within import by_data, count, place, total
 from tests.checks import Checks
@@ -25,6 +29,8 @@ FILES = {
         "alike": "(f, g)", "always": "(t)", "holds_from": "(t)", "least_from": "(f, v)", "solved": "(f, v)",
         "reached": "(f)", "lowest": "(f, bound=-1000000)", "highest": "(f, bound=1000000)", "common": "(f)",
         "remainders": "(f, m)"},
+    backs: {"told_back": "(values, start, period, degree)", "simplest": "(values)"},
+    texts: {"read_formula": "(text)", "read_test": "(text)"},
 }
 SIGNATURES = {
     **FILES,
@@ -36,22 +42,32 @@ SIGNATURES = {
         "first_from": "(self, n)", "last_to": "(self, n)", "how_many": "(self, low, high)", "member": "(self, k)"},
     Formula: {"__call__": "(self, n)"},
     Test: {"__call__": "(self, n)"},
+    Loop: {"__init__": "(self, begin, test, step, most=100)"},
+    Book: {
+        "__init__": "(self)", "put": "(self, name, text)", "guard": "(self, name, text)", "drop": "(self, name)",
+        "rename": "(self, name, new)", "spelled": "(self, name)", "needs": "(self, name)",
+        "moved": "(self, name, text)", "undo": "(self)", "past": "(self, k)", "attempt": "(self, action)",
+        "read": "(cls, page)"},
 }
+# The file under which the interface lists each class.
+CLASSES = (
+    (pieces, Piece), (wheres, Where), (formulas, Formula), (compare, Test), (loops, Loop), (books, Book))
 OPERATORS = {
     Piece: ("eq", "add", "radd", "sub", "rsub", "mul", "rmul", "neg", "pow"),
     Where: ("eq", "contains", "or", "and", "sub", "xor", "invert", "le", "lt", "ge", "gt", "bool"),
     Formula: ("call", "eq", "add", "radd", "sub", "rsub", "mul", "rmul", "floordiv", "rfloordiv", "mod", "rmod", "pow",
               "neg", "abs"),
     Test: ("call", "eq", "invert", "and", "or"),
+    Book: ("getitem", "contains", "len", "eq"),
 }
 
 
 class TestInterface(unittest.TestCase):
 
     def test_each_name_is_defined_in_its_file_or_class(self):
-        for file, name in ((pieces, "Piece"), (wheres, "Where"), (formulas, "Formula"), (compare, "Test")):
-            self.assertEqual(vars(file)[name].__module__, file.__name__)
-            self.assertIsInstance(vars(file)[name], type)
+        for file, kind in CLASSES:
+            self.assertIs(vars(file)[kind.__name__], kind)
+            self.assertEqual(kind.__module__, file.__name__)
         for file, names in FILES.items():
             for name in names:
                 self.assertEqual(vars(file)[name].__module__, file.__name__)
@@ -68,7 +84,7 @@ class TestInterface(unittest.TestCase):
                 self.assertEqual(str(inspect.signature(plain)), signature, name)
 
     def test_makers_are_class_methods(self):
-        for owner, names in ((Piece, ("through",)), (Where, ("of", "since", "rest"))):
+        for owner, names in ((Piece, ("through",)), (Where, ("of", "since", "rest")), (Book, ("read",))):
             for name in names:
                 self.assertIsInstance(vars(owner)[name], classmethod)
 
@@ -101,6 +117,22 @@ class TestInterface(unittest.TestCase):
                           reached(f=3), lowest(f=n, bound=3), highest(bound=3, f=-n), common(f=6), remainders(m=2, f=n)],
                          [1, 5, None, 3, (3,), (3,), (0, 0), (0, 0), 6, (0, 1)])
 
+    def test_arguments_of_loops_texts_and_books_by_name(self):
+        n = unknown()
+        f = told_back(degree=1, period=2, start=1, values=[5, 0, 1, 1, 2, 2, 3])
+        self.assertEqual((f.start, f.period, simplest(values=[5, 1, 1])), (1, 2, by_data([5], [Piece((1,))])))
+        loop = Loop(most=3, step=lambda a: [a - 1], test=lambda a: less(0, a), begin=[n])
+        self.assertEqual((loop.most, loop.many), (3, Where.since(4)))
+        self.assertEqual((read_formula(text="(n + 1)"), read_test(text="(n < 1)")), (n + 1, less(n, 1)))
+        book = Book.read(page="a = n")
+        book.put(text="(a + 1)", name="b")
+        book.guard(text="(a < b)", name="c")
+        book.rename(new="d", name="c")
+        self.assertEqual((book.spelled(name="d"), book.needs(name="d")), ("(a < b)", ("a", "b")))
+        self.assertEqual(book.moved(text="(a + 2)", name="b"), {"b": 0})
+        book.drop(name="d")
+        self.assertEqual((len(book.past(k=1)), book.attempt(action=len)), (1, 5))
+
     def test_attributes_are_there_when_the_object_is(self):
         self.assertLessEqual({"row", "under"}, set(vars(Piece((1,)))))
         self.assertLessEqual({"below", "rests", "start", "period"}, set(vars(Where([], [True]))))
@@ -109,15 +141,34 @@ class TestInterface(unittest.TestCase):
             self.assertLessEqual({"below", "pieces", "start", "period", "undefined", "text"}, set(vars(f)))
         for t in (less(n, 5), ~less(n, 5), same(n, 5) & atmost(n, 7), same(n, 5) | atmost(n, 7)):
             self.assertLessEqual({"holds", "fails", "text"}, set(vars(t)))
+        loop = Loop([n], lambda a: less(0, a), lambda a: [a - 1])
+        self.assertLessEqual({"most", "rounds", "last", "ends", "many", "broken"}, set(vars(loop)))
+        for book in (Book(), Book.read("a = n"), Book().past(0)):
+            self.assertLessEqual({"names", "guards"}, set(vars(book)))
 
 
 class TestConventions(Checks):
+
+    def test_defaults_may_be_left_out(self):
+        n = unknown()
+        self.assertEqual(Piece((1, 2)), Piece((1, 2), 1))
+        self.assertEqual(signs_of(Piece((-1, 1))), signs_of(Piece((-1, 1)), 0))
+        self.assertEqual(lowest(n), lowest(n, -10 ** 6))
+        self.assertEqual(highest(-n), highest(-n, 10 ** 6))
+        self.assert_error(NoBound, {"n": 10 ** 6 + 1}, lowest, -n)
+        self.assert_error(NoBound, {"n": 10 ** 6 + 1}, highest, n)
+        self.assertEqual(Loop([n], lambda a: less(0, a), lambda a: [a - 1]).many, Where.since(101))
 
     def test_lists_and_tuples_in_the_place_of_each_other(self):
         self.assertEqual(Piece([1, 2], 3), Piece((1, 2), 3))
         self.assertEqual(Piece.through(0, [1, 2]), Piece.through(0, (1, 2)))
         self.assertEqual(Where([True], (False, True)), Where((True,), [False, True]))
         self.assertEqual(Where.of([1, 2]), Where.of((1, 2)))
+
+        values = [5, 0, 1, 1, 2, 2, 3]
+        self.assertEqual(told_back(values, 1, 2, 1), told_back(tuple(values), 1, 2, 1))
+        self.assertEqual(simplest(values).text, simplest(tuple(values)).text)
+        self.assertEqual(by_data([1, None], [Piece((1,)), None]), by_data((1, None), (Piece((1,)), None)))
 
     def test_no_argument_is_changed(self):
         row, values, below, rests, members = [2, 4, 0], [1, 4, 9], [True, False, False], [False, False], [5, 1]
@@ -177,15 +228,19 @@ class TestConventions(Checks):
         p, w = Piece(()), Where.of([])
         self.assertFalse(p == w)
         self.assertFalse(w == p)
-        things = [Piece((1,)), Where.of([1]), whole(1), same(1, 1), 1, True, None]
-        for k, one in enumerate(things[:4]):
-            self.assertEqual([one == other for other in things], [j == k for j in range(7)])
+        loop = Loop([1], lambda a: less(a, 1), None)
+        things = [Piece((1,)), Where.of([1]), whole(1), same(1, 1), loop, Book(), 1, True, None, "", (), {}]
+        for k, one in enumerate(things[:6]):
+            self.assertEqual([one == other for other in things], [j == k for j in range(12)])
+            self.assertEqual([other == one for other in things], [j == k for j in range(12)])
 
     def test_true_and_false_are_no_integers(self):
         self.assert_error(BadRow, {"index": 0}, Piece, [True])
         self.assert_error(BadNumber, {"number": True}, all_with, Piece((1,)), True)
         self.assertNotIn(True, Where.since(0))
         self.assert_error(BadWhole, {"value": True}, lambda: unknown() + True)
+        self.assert_error(BadMember, {"index": 0}, simplest, [False])
+        self.assert_error(BadNumber, {"number": False}, Book().past, False)
 
 
 if __name__ == "__main__":

@@ -29,6 +29,16 @@ True
 4
 >>> solved(n * n - 9 * n, 10 ** 30 - 9 * 10 ** 15)[1]
 (1000000000000000,)
+''', '''
+>>> from everyfloor.formulas import unknown
+>>> from everyfloor.loops import Loop
+>>> from everyfloor.compare import same
+>>> n = unknown()
+>>> euclid = Loop([n * n, n + 2], lambda a, b: ~same(b, 0), lambda a, b: [b, a % b])
+>>> [euclid.rounds(k) for k in range(8)]
+[1, 2, 1, 3, 3, 4, 2, 3]
+>>> [euclid.rounds.period, euclid.rounds.start, euclid.rounds(10 ** 60 + 1)]
+[4, 3, 4]
 ''')
 
 
