@@ -12,6 +12,7 @@ from everyfloor.integers import value_at
 from everyfloor.wheres import MOST_PERIOD, MOST_START
 
 MOST_DEGREE = 8
+NEAR = 32
 
 
 class Told:
@@ -64,24 +65,24 @@ def values_of_piece(piece, first, step, many):
     """As many values of a piece, at first, first + step, and so on, where they are integers; None for None."""
     if piece is None:
         return [None] * many
-    if len(piece.row) < 2:
-        return [value_of_constant(piece)] * many
-    if len(piece.row) == 2 and piece.under == 1:
-        begin = value_at(piece.row, first)
-        rise = piece.row[1] * step
+    numbers = numbers_of_piece(piece, first, step, many)
+    return numbers if piece.under == 1 else [number // piece.under for number in numbers]
+
+
+def numbers_of_piece(piece, first, step, many):
+    """As many values of the row of a piece, at first, first + step, and so on."""
+    row = piece.row
+    if len(row) < 2:
+        return [value_at(row, 0)] * many
+    if len(row) == 2:
+        begin = value_at(row, first)
+        rise = row[1] * step
         return list(range(begin, begin + rise * many, rise))
     places = list(range(first, first + step * many, step))
-    values = [piece.row[-1]] * many
-    for number in piece.row[-2::-1]:
-        values = [value * n + number for value, n in zip(values, places)]
-    return values if piece.under == 1 else [value // piece.under for value in values]
-
-
-def value_of_constant(piece):
-    """The value of a piece without n; None for None."""
-    if piece is None:
-        return None
-    return piece.row[0] if len(piece.row) > 0 else 0
+    numbers = [row[-1]] * many
+    for added in row[-2::-1]:
+        numbers = [number * n + added for number, n in zip(numbers, places)]
+    return numbers
 
 
 def pairs_of(ones, others):
@@ -140,10 +141,27 @@ def least_form(values, pieces):
 
 
 def _least_start(values, pieces):
-    for n in reversed(range(len(values))):
-        if not gives(pieces[n % len(pieces)], n, values[n]):
+    m = len(pieces)
+    near = max(0, len(values) - NEAR)
+    # Most starts are not far from the end; where this one is, the values are looked at rest by rest.
+    for n in reversed(range(near, len(values))):
+        if not gives(pieces[n % m], n, values[n]):
             return n + 1
-    return 0
+    starts = [_start_of_column(values[r:near:m], pieces[r], r, m) for r in range(min(m, int(near)))]
+    return max([int(start) for start in starts], default=0)
+
+
+def _start_of_column(values, piece, r, m):
+    """The least n from which on the values at r, r + m, r + 2 * m, .. are those of the piece, which may be None."""
+    if piece is None:
+        fits = [value is None for value in values]
+    else:
+        numbers = numbers_of_piece(piece, r, m, len(values))
+        fits = [value is not None and value * piece.under == number for value, number in zip(values, numbers)]
+    if False not in fits:
+        return 0
+    last = len(fits) - 1 - fits[::-1].index(False)
+    return r + m * last + 1
 
 
 def gives(piece, n, value):

@@ -204,6 +204,9 @@ class TestSimplest(Twins):
             self.assertEqual(simplest(values_of(f, 800)), f)
         self.assertEqual(simplest(values_of(fine(720), 1440)).period, 720)
         self.assertIsNone(simplest(values_of(fine(720), 1439)))
+        # The period 721 and the degree 9 are too great, however many values there are.
+        self.assertIsNone(simplest([pow(11, k, 10007) for k in range(721)] * 3))
+        self.assertIsNone(simplest([k ** 9 for k in range(16)]))
         # The last values of a row that rises to the end come from one line.
         self.assertEqual(simplest(values_of(n % 360, 800)).start, 720)
         late = [1] * 9999 + [0, 1, 1]

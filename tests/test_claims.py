@@ -226,6 +226,8 @@ class TestLowest(Twins):
         self.assertEqual(highest(n % 5), (4, 4))
         self.assertEqual(highest(-((2 * n - 9) ** 2)), (-1, 4))
         self.assertEqual(lowest(7), (7, 0))
+        self.assertEqual(lowest((n * n - 9 * n) // 2 + n % 2), (-10, 4))
+        self.assertEqual(highest((n * n + n) // 2 * -7), (0, 0))
         self.assertEqual(lowest(HOLE), (-6, 2))
         self.assertEqual(highest(HOLE), (6, 4))
         # The rests one by one: the same least value at another n, or a greater one at a smaller n.
@@ -260,6 +262,7 @@ class TestDivisors(Twins):
     def test_common_edges(self):
         self.assertEqual([common(UNDEFINED), common(0), common(-6), common(n), common(n - n)], [0, 0, 6, 1, 0])
         self.assertEqual(common(by_data([15], [Piece((0, 6))])), 3)
+        self.assertEqual([common((n * n + n) // 2), common((n * n + n) // 2 * 9), common(n ** 3 - n)], [1, 9, 6])
         self.assertEqual(common(by_data([], [Piece((HUNDRED,)), Piece((2 * HUNDRED,))])), HUNDRED)
         for wrong in NO_WHOLES:
             self.assert_error(BadWhole, {"value": wrong}, common, wrong)

@@ -90,7 +90,11 @@ class TestComparisons(Twins):
         self.assertEqual(less(n, TEN).holds.start, 10000)
         self.assertEqual(atmost(n, TEN - 1).fails.start, 10000)
         self.assertEqual(same(n, TEN - 1).holds.start, 10000)
+        self.assertEqual(atmost(TEN, n).holds.start, 10000)
+        self.assertEqual(less(TEN - 1, n).holds.start, 10000)
+        self.assertEqual(same(TEN - 1, n).fails.start, 10000)
         for make in (lambda: less(n, TEN + 1), lambda: less(TEN, n), lambda: atmost(n, TEN), lambda: same(n, TEN),
+                     lambda: atmost(TEN + 1, n), lambda: same(TEN, n),
                      lambda: same(n * n, (TEN ** 5) ** 4), lambda: less(n, (TEN ** 5) ** 4)):
             self.assert_error(TooLate, LATE, make)
         # The gap is never 0, although its sign changes behind 10000.

@@ -290,6 +290,13 @@ class TestBounds(Twins):
         # The squares come round sooner.
         self.assertEqual(((n * n // 1000).period, (n * n % 1000).period), (500, 500))
         self.assertEqual(((720 * n) // 1000).period, 25)
+        # Odd periods as great as may be, on both sides of what is joined, and with degrees.
+        odd = n % 719
+        self.assertEqual([f.period for f in (odd, n // 719, odd + n, odd * odd, abs(odd - 300), n * n // 719,
+                                             n * n % 719, n ** 3 // 719, least(odd, 3), gcd(odd, n * 0))], [719] * 10)
+        for make in (lambda: n * n // 721, lambda: n * n % 721, lambda: n ** 3 % 727, lambda: n // TEN ** 6,
+                     lambda: n * n % (TEN ** 6 + 1)):
+            self.assert_error(TooFine, FINE, make)
 
     def test_the_period_is_to_be_a_multiple_of_those_of_the_parts(self):
         # The squares come round by 500 after 250, and by 400 after 200; n % 3 makes 750 and 600 of these.

@@ -87,6 +87,15 @@ class TestAt(Twins):
         self.assertEqual(UNDEFINED((TEN ** 6) ** 2 - n), UNDEFINED)
         self.assert_error(TooLate, LATE, lambda: f(n // 7))
         self.assert_error(TooLate, LATE, lambda: f(5 * TEN + 1 - 2 * n))
+        self.assert_error(TooLate, LATE, lambda: f(n // 7 + 1))
+        # At a single place the host has another value; it is asked there at the n from 720 * k on, some of them late.
+        for k in (11, 12, 13, 14, 15, 16, 400, 401):
+            host = when(same(n, k), 5, 0)
+            for guest, last in ((n // 720, 720 * k + 719), (when(less(n % 720, 600), n // 720, 0), 720 * k + 599)):
+                if last < 10000:
+                    self.assertEqual(host(guest).start, last + 1)
+                else:
+                    self.assert_error(TooLate, LATE, lambda: host(guest))
         # Odd places below 10000 have other values than those behind.
         g = when(less(n, TEN) & same(n % 2, 1), 5, 0)
         self.assertEqual((g.start, g.period), (10000, 1))
