@@ -24,7 +24,7 @@ class Formula:
         self.pieces = pieces
         self.start = len(below)
         self.period = len(pieces)
-        self.undefined = Where([value is None for value in below], [piece is None for piece in pieces])
+        self.undefined = _gaps(below, pieces)
         self.text = text
 
     def __call__(self, n):
@@ -80,6 +80,15 @@ class Formula:
 
     def __abs__(self):
         return Formula(absolute_of(self), f"abs({self.text})")
+
+
+def _gaps(below, pieces):
+    """The set of the n at which a formula with these values and pieces is undefined."""
+    early = [value is None for value in below]
+    late = [piece is None for piece in pieces]
+    if True in early or True in late:
+        return Where(early, late)
+    return Where((), (False,))
 
 
 def unknown():

@@ -183,6 +183,8 @@ def _check_truths(truths):
 
 def _least_start(below, rests):
     size = len(below)
+    if size == 0 or below[size - 1] != rests[(size - 1) % len(rests)]:
+        return size
     truths = list(below)
     later = (list(rests) * (size // len(rests) + 1))[:size]
     # From the start on, and not from any n below it, the rows are the same to their ends.
