@@ -45,8 +45,8 @@ def _run(begin, test, step, most):
     tests = [_tested(begin, test)]
     while len(tests) <= most and tests[-1].holds:
         t = tests[-1]
-        values = _stepped([_where_held(t, value) for value in rows[-1]], step)
-        rows.append([_where_held(t, value) for value in values])
+        values = _stepped([_going_on(t, value) for value in rows[-1]], step)
+        rows.append([_by_data_of(_where_held(t, value)) for value in values])
         tests.append(_tested(rows[-1], test))
     return rows, tests
 
@@ -75,9 +75,15 @@ def _stepped(values, step):
     return [as_formula(value) for value in found]
 
 
+def _going_on(t, value):
+    """The formula that is the value where t holds, and undefined at all other n; the value has the text of its data."""
+    found = _where_held(t, value)
+    return value if found.below == value.below and found.pieces == value.pieces else _by_data_of(found)
+
+
 def _where_held(t, f):
-    """The formula that is f where t holds, and undefined at all other n."""
-    return _by_data_of(_choice(t, f, _undefined()))
+    """What f follows where t holds, undefined at all other n."""
+    return _choice(t, f, _undefined())
 
 
 def _at_the_end(tests, formulas):
