@@ -246,6 +246,15 @@ class TestCalls(Twins):
             self.assert_values(a, first)
             self.assert_values(b, second)
 
+    def test_step_gets_what_is_undefined_where_the_loop_does_not_go_on(self):
+        seen = []
+        Loop([n, 5], lambda a, b: same(a % 2, 0), lambda a, b: seen.append((a, b)) or [a + 1, b])
+        self.assertEqual([f.text for f in seen[0]], ["given(; 0 1, none)", "given(; 5, none)"])
+        # All go on, and the values stay as they are.
+        Loop([n, 5], lambda a, b: less(b, 6), lambda a, b: seen.append((a, b)) or [a, b + 1])
+        self.assertEqual([f.text for f in seen[1]], ["given(; 0 1)", "given(; 5)"])
+        self.assertEqual(len(seen), 2)
+
     def test_a_value_alone_that_is_undefined_stays_as_it_is(self):
         seen = []
         Loop([n, 1], lambda a, b: seen.append((a, b)) or less(a, 2), lambda a, b: [a + 1, 1 // (a - 1)], 1)
