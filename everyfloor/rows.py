@@ -153,15 +153,14 @@ def _least_start(values, pieces):
 
 def _start_of_column(values, piece, r, m):
     """The least n from which on the values at r, r + m, r + 2 * m, .. are those of the piece, which may be None."""
+    places = range(r, r + m * len(values), m)
     if piece is None:
-        fits = [value is None for value in values]
+        astray = [n for n, value in zip(places, values) if value is not None]
     else:
         numbers = numbers_of_piece(piece, r, m, len(values))
-        fits = [value is not None and value * piece.under == number for value, number in zip(values, numbers)]
-    if False not in fits:
-        return 0
-    last = len(fits) - 1 - fits[::-1].index(False)
-    return r + m * last + 1
+        astray = [n for n, value, number in zip(places, values, numbers)
+                  if value is None or value * piece.under != number]
+    return astray[-1] + 1 if len(astray) > 0 else 0
 
 
 def gives(piece, n, value):

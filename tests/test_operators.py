@@ -103,6 +103,16 @@ class TestOperators(unittest.TestCase):
                     plain = isinstance(node.func, ast.Name)
                     self.assertIn(node.func.id if plain else node.func.attr, known if plain else methods, place)
 
+    def test_no_method_that_is_called_has_the_name_of_an_attribute(self):
+        # Read by itself, such a call may as well be one of what an object holds: an error holds an index.
+        held = {node.attr for tree in package_trees().values() for node in ast.walk(tree)
+                if isinstance(node, ast.Attribute) and isinstance(node.ctx, ast.Store)}
+        self.assertLessEqual({"index", "row", "below"}, held)
+        for place, function in self.reached:
+            for node in ast.walk(function):
+                if isinstance(node, ast.Call) and isinstance(node.func, ast.Attribute):
+                    self.assertNotIn(node.func.attr, held, place)
+
 
 if __name__ == "__main__":
     unittest.main()
